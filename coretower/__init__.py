@@ -1,0 +1,1 @@
+"""Coretower: objects on a machine of many cores, as a tower of rungs that answer alike."""

@@ -1,0 +1,56 @@
+"""The names, arguments and places of the interface exist as the document writes them."""
+
+import importlib
+import inspect
+import unittest
+
+# For each module: functions with their arguments, and classes with those of each method that is listed.
+FUNCTIONS = {
+    "webs": {"shown": "run"},
+    "papers": {"lockstep": "low, high"},
+    "games": {},
+}
+CLASSES = {
+    "webs": {"Web": {"__init__": "self, rows", "__len__": "self", "moves": "self, at", "replies": "self, at, deed",
+                     "go": "self, run", "lacks": "self, history", "__contains__": None, "histories": "self, most"}},
+    "papers": {"Paper": {"__init__": "self, low, high, pairs", "__len__": "self", "__contains__": None,
+                         "__iter__": "self", "__or__": None, "fault": "self", "reply": "self, pair, deed",
+                         "then": "self, other", "trimmed": "self", "same": "web"}},
+    "games": {"Game": {"__init__": "self, low, high", "word": "self", "rounds": "self", "paper": "self", "sets": "self",
+                       "shortest": "self", "spoiler": "self"},
+              "Spoiler": {"__call__": "self, reply", "stand": "property", "stretch": "property", "won": "property"}},
+}
+
+
+class InterfaceTest(unittest.TestCase):
+    def told(self, function):
+        return str(inspect.signature(function)).strip("()")
+
+    def test_functions(self):
+        for module, functions in FUNCTIONS.items():
+            for name, arguments in functions.items():
+                with self.subTest(name=name):
+                    function = getattr(importlib.import_module(f"coretower.{module}"), name)
+                    self.assertEqual(function.__module__, f"coretower.{module}")
+                    self.assertEqual(self.told(function), arguments)
+
+    def test_classes(self):
+        for module, classes in CLASSES.items():
+            for name, methods in classes.items():
+                kind = getattr(importlib.import_module(f"coretower.{module}"), name)
+                self.assertEqual(kind.__module__, f"coretower.{module}")
+                for method, arguments in methods.items():
+                    with self.subTest(name=name, method=method):
+                        found = vars(kind)[method]
+                        if arguments == "property":
+                            self.assertIsInstance(found, property)
+                        elif arguments is not None:
+                            self.assertEqual(self.told(getattr(kind, method)), arguments)
+
+    def test_static_methods(self):
+        from coretower.papers import Paper
+        self.assertIsInstance(vars(Paper)["same"], staticmethod)
+
+
+if __name__ == "__main__":
+    unittest.main()
