@@ -74,7 +74,8 @@ class Web:
         for at in self.reached(stands):
             for deed, goal in self._rows[at]:
                 if is_visible(deed):
-                    goals.setdefault(deed, {})[goal] = True
+                    row = goals.setdefault(deed, {})
+                    row[goal] = True
         return {deed: sorted(goals[deed]) for deed in sorted(goals)}
 
     def go(self, run):

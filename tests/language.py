@@ -191,11 +191,16 @@ class Finder:
                 self.tell(node, "L22", f"a keyword of {name}")
         if name in FLEETING and (isinstance(node.func, ast.Name) or not node.args):
             self.fleeting(node, name)
-        if name == "reversed" and not (isinstance(node.args[0], (ast.List, ast.Tuple)) or isinstance(
-                node.args[0], ast.Call) and getattr(node.args[0].func, "id", "") in ("list", "tuple", "sorted", "range")):
-            self.tell(node, "L5", "reversed over what may be an own object")
+        if name == "reversed":
+            self.reversed_place(node)
         if name == "set":
             self.set_place(node)
+
+    def reversed_place(self, node):
+        what = node.args[0]
+        if not isinstance(what, (ast.List, ast.Tuple)) and not (
+                isinstance(what, ast.Call) and getattr(what.func, "id", "") in ("list", "tuple", "sorted", "range")):
+            self.tell(node, "L5", "reversed over what may be an own object")
 
     def fleeting(self, node, name):
         parent = self.parents[node]
@@ -256,7 +261,8 @@ class Finder:
 
 def package_files(folder):
     """The paths of the files of the package, in order."""
-    return sorted(path for path in pathlib.Path(folder).rglob("*") if path.is_file() and "__pycache__" not in path.parts)
+    paths = [path for path in pathlib.Path(folder).rglob("*") if path.is_file()]
+    return sorted(path for path in paths if "__pycache__" not in path.parts)
 
 
 def methods_of(tree):

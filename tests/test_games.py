@@ -4,8 +4,8 @@ from coretower.errors import BadReply, TooLarge
 from coretower.games import Game, Spoiler
 from coretower.papers import Paper
 from coretower.webs import Web, shown
-from tests.samples import (back, call, is_paper, led_to, moves_of, plain_rounds, plain_sets, random_web, ring_of, row_of,
-                           sample_pair, step, visible)
+from tests.samples import (back, call, is_paper, led_to, moves_of, plain_rounds, plain_sets, random_web, ring_of,
+                           row_of, sample_pair, step, visible)
 
 A, B, S = call("a"), call("b"), step()
 WEAKNESS = ["at once", "afterwards", "never"]
@@ -229,8 +229,8 @@ class SpoilerTest(unittest.TestCase):
         first(3)
         self.assertEqual((second.stand, second.won), ((0, 0), False))
 
-    def check_play(self, game, rows, high_rows, spoiler, rounds):
-        """Follow all replies; the rounds get earlier, so this ends."""
+    def check_play(self, rows, high_rows, spoiler):
+        """The pairs to which the stretch leads, in which just the last deed is visible."""
         pair, stretch = spoiler.stand, spoiler.stretch
         self.assertTrue(visible(stretch[-1]))
         self.assertFalse(any(visible(deed) for deed in stretch[:-1]))
@@ -260,7 +260,7 @@ class SpoilerTest(unittest.TestCase):
                     self.assertLess(rounds[spoiler.stand], rounds[stand])
                     self.assertGreater(rounds[spoiler.stand], 0)
                     self.assertEqual(spoiler.stand[1], reply)
-                led = self.check_play(game, rows, high_rows, spoiler, rounds)
+                led = self.check_play(rows, high_rows, spoiler)
                 waiting += [replies + [reply] for _, reply in led]
         self.assertGreater(plays, 500)
 

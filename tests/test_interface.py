@@ -8,8 +8,12 @@ import unittest
 FUNCTIONS = {
     "webs": {"shown": "run"},
     "papers": {"lockstep": "low, high"},
-    "games": {},
+    "shapes": {"table_of": "shape"},
+    "likeness": {"alike": "a, b", "parting": "a, b", "likeness": "a, b", "least": "table", "trade": "table, p, q",
+                 "silent": "table, name"},
+    "steps": {"worth_of": "worth, values, base", "holds": "guard, values, base"},
 }
+SHAPE = {"rows": "self"}
 CLASSES = {
     "webs": {"Web": {"__init__": "self, rows", "__len__": "self", "moves": "self, at", "replies": "self, at, deed",
                      "go": "self, run", "lacks": "self, history", "__contains__": None, "histories": "self, most"}},
@@ -19,6 +23,15 @@ CLASSES = {
     "games": {"Game": {"__init__": "self, low, high", "word": "self", "rounds": "self", "paper": "self", "sets": "self",
                        "shortest": "self", "spoiler": "self"},
               "Spoiler": {"__call__": "self, reply", "stand": "property", "stretch": "property", "won": "property"}},
+    "tables": {"Table": {"__init__": "self, rows, first=0", "names": "self", "__call__": "self, name, state",
+                         "answers": "self, calls", "only": "self, names", "__add__": None}},
+    "shapes": {"Shape": {"__init__": "self, size", "rows": "self"}, "Looks": SHAPE, "Ups": SHAPE, "Tops": SHAPE,
+               "Clears": SHAPE, "Ticket": SHAPE, "Latch": SHAPE, "Meter": SHAPE},
+    "builds": {"Operation": {"__init__": "self, name, steps, *, turns=1, otherwise=0", "steps": "self",
+                             "sections": "self"},
+               "Build": {"__init__": "self, base, cells, operations, *, fields=(), links=(), limit=0", "names": "self",
+                         "cells": "self", "fields": "self", "links": "self", "locks": "self", "__getitem__": None,
+                         "__iter__": "self", "__add__": None}},
 }
 
 

@@ -80,8 +80,8 @@ class MakingTest(unittest.TestCase):
 
     def test_union_over_other_webs(self):
         a = paper_of(LOW, HIGH, GOOD)
-        for low, high in ((HIGH, HIGH), (LOW, LOW), (LOW, HIGH + [[]]), (LOW[:1] + [[(back(0), 0), (back(2), 0)]], HIGH),
-                          ([[(A, 0)], LOW[1]], HIGH)):
+        for low, high in ((HIGH, HIGH), (LOW, LOW), (LOW, HIGH + [[]]), ([[(A, 0)], LOW[1]], HIGH),
+                          (LOW[:1] + [[(back(0), 0), (back(2), 0)]], HIGH)):
             with self.assertRaises(OtherWeb):
                 a | paper_of(low, high, [(0, 0)])
             with self.assertRaises(OtherWeb):
@@ -220,11 +220,13 @@ class TrimmedTest(unittest.TestCase):
         self.assertEqual(list(paper.trimmed()), [(0, 0), (1, 0)])
 
     def test_no_paper(self):
-        cases = [([(1, 1)], (0, 0), None), ([(0, 0), (1, 2)], (1, 2), back(1)), ([(0, 0)], (0, 0), A)]
+        cases = [([(1, 1)], (0, 0), None), ([(0, 0), (1, 1), (1, 2)], (1, 2), back(1)), ([(0, 0)], (0, 0), A)]
         for pairs, pair, deed in cases:
+            paper = paper_of(LOW, HIGH, pairs)
             with self.assertRaises(NotMet) as caught:
-                paper_of(LOW, [HIGH[0][:1] + [(B, 2)]] + HIGH[1:], pairs + ([(1, 1)] if deed == back(1) else [])).trimmed()
+                paper.trimmed()
             self.assertEqual((caught.exception.pair, caught.exception.deed), (pair, deed))
+            self.assertEqual(paper.fault(), (pair, deed))
 
     def test_against_replies(self):
         done = 0
@@ -282,7 +284,9 @@ class LockstepTest(unittest.TestCase):
         papers = 0
         for seed in range(300):
             low = random_web(seed, most=3, chance=0.3)
-            high = Web([row + [(B, 0)] * (B not in dict(row)) for row in moves_of(low)]) if seed % 2 else random_web(seed + 9)
+            high = random_web(seed + 9)
+            if seed % 2:
+                high = Web([row + [(B, 0)] * (B not in dict(row)) for row in moves_of(low)])
             told = lockstep(low, high)
             rows, high_rows = moves_of(low), moves_of(high)
             pairs, lacking = set(), False

@@ -9,12 +9,16 @@ A, B, S = call("a"), call("b"), step()
 
 BAD_DEEDS = [
     [0, "call", "a"], "abc", None, 7, (), (0, "call"), (0, "call", "a", 1),
-    (3, "call", "a"), (-1, "call", "a"), (True, "call", "a"), (False, "call", "a"), ("0", "call", "a"), (None, "step", 0),
+    (3, "call", "a"), (-1, "call", "a"), (True, "call", "a"), (False, "call", "a"), ("0", "call", "a"),
+    (None, "step", 0),
     (0.0, "call", "a"), ((0,), "call", "a"),
     (0, "calls", "a"), (0, "", "a"), (0, 1, "a"), (0, None, 0), (0, ["call"], "a"), (0, ("call",), "a"),
-    (0, "call", ""), (0, "call", "abcdefghi"), (0, "call", "A"), (0, "call", "a1"), (0, "call", "a b"), (0, "call", "a\n"),
+    (0, "steps", 0), (0, "Return", 0), (0, "", 0), (0, ["step"], 0), (0, 0, 0),
+    (0, "call", ""), (0, "call", "abcdefghi"), (0, "call", "A"), (0, "call", "a1"), (0, "call", "a b"),
+    (0, "call", "a\n"),
     (0, "call", "\u00e4"), (0, "call", 1), (0, "call", None), (0, "call", ["a"]), (0, "call", ("a",)),
-    (0, "return", 10), (0, "return", -1), (0, "return", True), (0, "return", "1"), (0, "return", None), (0, "return", [1]),
+    (0, "return", 10), (0, "return", -1), (0, "return", True), (0, "return", "1"), (0, "return", None),
+    (0, "return", [1]),
     (0, "step", 10), (0, "step", -1), (0, "step", False), (0, "step", "a"), (0, "step", 1.0),
 ]
 NO_STANDINGS = [-1, 3, 4000, True, False, None, "0", 0.0, (0,), [0], {}]
@@ -138,8 +142,11 @@ class HistoriesTest(unittest.TestCase):
             self.assertEqual(web.lacks(history), at)
             self.assertIs(history in web, False)
 
-    def test_hidden_deeds_are_in_no_history(self):
-        self.assertEqual(Web([[(S, 0), (A, 0)]]).lacks([A, S]), 1)
+    def test_what_is_no_visible_deed_is_in_no_history(self):
+        web = Web([[(S, 0), (A, 0), (back(1), 0)]])
+        for deed in (S, (False, "call", "a"), (0, "return", True), [0, "call", "a"], (0, "call", ["a"]), None):
+            self.assertEqual(web.lacks([A, deed]), 1)
+            self.assertIs([deed] in web, False)
 
     def test_lacks_keeps_all_standings_in_view(self):
         web = Web([[(A, 1), (S, 2)], [(B, 0)], [(A, 3)], [(back(1), 0)]])
