@@ -94,7 +94,7 @@ class Rounds:
         while hits:
             number += 1
             later = []
-            for knot, deed in hits:
+            for knot, deed in list(hits):
                 if knot not in numbers:
                     numbers[knot] = number
                     deeds[knot] = deed

@@ -106,7 +106,7 @@ class Web:
         while level and length < most:
             length += 1
             longer = []
-            for history, stands in level:
+            for history, stands in list(level):
                 offers = self.offers(stands)
                 for deed in offers:
                     yield history + [deed]

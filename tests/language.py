@@ -34,6 +34,7 @@ STARTS = ("_wall", "_pe_", "_dcw_", "_enum_", "_cm_", "_twin_re_", "_lay_", "_la
           "_tuplegetter", "_outside", "_record", "_written_out", "_member_names")
 FLEETING = {"zip", "enumerate", "reversed", "range", "items", "keys", "values"}
 TAKERS = {"list", "tuple", "dict", "sorted", "sum", "any", "all", "enumerate", "zip", "min", "max", "len", "reversed"}
+CHANGERS = {"append", "clear", "extend", "insert", "pop", "remove", "reverse", "setdefault", "update", "add", "discard"}
 NO_NODES = (ast.Global, ast.AsyncFor, ast.AsyncFunctionDef, ast.AsyncWith, ast.Await, ast.AnnAssign, ast.Div,
             ast.MatMult, ast.Match, ast.With, ast.Import, ast.GeneratorExp)
 
@@ -252,11 +253,70 @@ class Finder:
             if caught in ("", "Exception", "ValueError", "TypeError", "LookupError", "IndexError", "AttributeError"):
                 self.tell(handler, "L19", f"caught {caught}")
 
+    def see_For(self, node):
+        function = node
+        while not isinstance(function, (ast.FunctionDef, ast.Module)):
+            function = self.parents[function]
+        groups = same_things(function)
+        walked = set().union(*[groups.get(name, {name}) for name in walked_names(node.iter)])
+        for part in ast.walk(ast.Module(node.body + node.orelse, [])):
+            for name in changed_names(part):
+                if name in walked:
+                    self.tell(part, "L23", f"{name} is walked here")
+
     def see_Raise(self, node):
         if node.exc is not None and not (
                 isinstance(node.exc, ast.Call) and isinstance(node.exc.func, ast.Name)
                 and node.exc.func.id in self.imported | self.classes | BUILTINS):
             self.tell(node, "L19", "raise of what is not created on the spot")
+
+
+def chosen_names(node):
+    """The names and attributes that an expression may stand for."""
+    if isinstance(node, ast.IfExp):
+        return chosen_names(node.body) | chosen_names(node.orelse)
+    if isinstance(node, ast.BoolOp):
+        return set().union(*[chosen_names(value) for value in node.values])
+    if isinstance(node, (ast.Name, ast.Attribute, ast.Subscript)):
+        return {ast.unparse(node)}
+    return set()
+
+
+def walked_names(node):
+    """What a loop over this expression walks."""
+    if isinstance(node, ast.Call):
+        name = getattr(node.func, "id", getattr(node.func, "attr", ""))
+        if name in ("enumerate", "zip", "reversed"):
+            return set().union(*[walked_names(part) for part in node.args])
+        if name in ("items", "values", "keys") and not node.args:
+            return chosen_names(node.func.value)
+        return set()
+    return chosen_names(node)
+
+
+def same_things(function):
+    """For each name of a function, all names that one assignment or several make the same thing."""
+    groups = {}
+    for node in ast.walk(function):
+        if isinstance(node, ast.Assign):
+            for target in node.targets:
+                for left in chosen_names(target):
+                    for right in chosen_names(node.value):
+                        joint = groups.get(left, {left}) | groups.get(right, {right})
+                        for name in joint:
+                            groups[name] = joint
+    return groups
+
+
+def changed_names(node):
+    """What a statement or call changes without giving it a new value."""
+    if isinstance(node, ast.Call) and isinstance(node.func, ast.Attribute) and node.func.attr in CHANGERS:
+        return chosen_names(node.func.value)
+    if isinstance(node, ast.Subscript) and not isinstance(node.ctx, ast.Load):
+        return chosen_names(node.value)
+    if isinstance(node, ast.AugAssign):
+        return chosen_names(node.target)
+    return set()
 
 
 def package_files(folder):
