@@ -12,6 +12,10 @@ FUNCTIONS = {
     "likeness": {"alike": "a, b", "parting": "a, b", "likeness": "a, b", "least": "table", "trade": "table, p, q",
                  "silent": "table, name"},
     "steps": {"worth_of": "worth, values, base", "holds": "guard, values, base"},
+    "lone": {"lone_table": "build", "lone_answers": "build, calls"},
+    "clients": {"once": "*names", "always": "*names", "check_client": "client, names"},
+    "spaces": {"dirty_run": "space"},
+    "plain": {"plain_web": "table, client"},
 }
 SHAPE = {"rows": "self"}
 CLASSES = {
@@ -32,12 +36,23 @@ CLASSES = {
                "Build": {"__init__": "self, base, cells, operations, *, fields=(), links=(), limit=0", "names": "self",
                          "cells": "self", "fields": "self", "links": "self", "locks": "self", "__getitem__": None,
                          "__iter__": "self", "__add__": None}},
+    "spaces": {"Space": {"__init__": "self, build, client, *, joined=False, pool=None, book=None, recipe=None, window=2, "
+                                     "chooser=None", "memory": "self, at", "holders": "self, at", "out": "self, at",
+                         "called": "self, at, caller", "pending": "self, at, caller", "behind": "self, at, caller",
+                         "dirty": "self, at"}},
+    "books": {"Pairs": {"__init__": "self, pairs=()", "__contains__": None, "__len__": "self", "__iter__": "self",
+                        "__and__": None, "__or__": None, "__sub__": None, "within": "self, other",
+                        "between": "firsts, seconds"},
+              "Book": {"__init__": "self, kept, *, fences=None", "fences": "self", "fence": "self, name",
+                       "keeps": "self, first, second, *, between=()", "strict": "", "buffered": "", "loose": ""}},
 }
+
+STATIC = [("papers", "Paper", ["same"]), ("books", "Pairs", ["between"]), ("books", "Book", ["strict", "buffered", "loose"])]
 
 
 class InterfaceTest(unittest.TestCase):
     def told(self, function):
-        return str(inspect.signature(function)).strip("()")
+        return str(inspect.signature(function))[1:-1]
 
     def test_functions(self):
         for module, functions in FUNCTIONS.items():
@@ -61,8 +76,10 @@ class InterfaceTest(unittest.TestCase):
                             self.assertEqual(self.told(getattr(kind, method)), arguments)
 
     def test_static_methods(self):
-        from coretower.papers import Paper
-        self.assertIsInstance(vars(Paper)["same"], staticmethod)
+        for module, name, methods in STATIC:
+            kind = getattr(importlib.import_module(f"coretower.{module}"), name)
+            for method in methods:
+                self.assertIsInstance(vars(kind)[method], staticmethod)
 
 
 if __name__ == "__main__":

@@ -1,0 +1,55 @@
+"""Ways to run: in order, by a book, or by a recipe."""
+
+from coretower.books import KINDS, WRITES
+
+
+class Way:
+    """Whose fences steps may name, which book keeps orders, what is issued for what, and the window.
+
+    In order there is no book: fences do nothing, and no two entries are pending.
+    """
+
+    def __init__(self, source, target, rows, fence_rows, window):
+        self.source = source
+        self.target = target
+        self.window = window
+        self._kind_rows = rows
+        self._fence_rows = fence_rows
+
+    def kind_row(self, kind):
+        """The fences ahead, the kind and the fences behind that are issued for an access of a kind."""
+        return self._kind_rows[kind]
+
+    def fence_row(self, name):
+        """The fences that are issued for a fence, or when a call becomes ready for "return"."""
+        return self._fence_rows.get(name, ())
+
+    def keeps(self, first, second, between):
+        """Whether the order of two kinds is kept over some fences."""
+        return self.target is not None and self.target.keeps(first, second, between=between)
+
+    def frees_return(self, kinds, gaps):
+        """Whether pending entries of these kinds, with the fences ahead of each and behind them, let a return by."""
+        if self.target is None:
+            return not kinds
+        for at, kind in enumerate(kinds):
+            if kind not in WRITES or self.keeps(kind, "return", fences_of(gaps[at + 1:])):
+                return False
+        return True
+
+
+def way_of(book, recipe, window):
+    """The way by a book or a recipe; in order, if both are None."""
+    if recipe is not None:
+        names = recipe.source.fences() + ["return"]
+        rows = {kind: recipe[kind] for kind in KINDS}
+        return Way(recipe.source, recipe.target, rows, {name: recipe[name] for name in names}, window)
+    rows = {kind: ((), kind, ()) for kind in KINDS}
+    if book is None:
+        return Way(None, None, rows, {}, 1)
+    return Way(book, book, rows, {name: (name,) for name in book.fences()}, window)
+
+
+def fences_of(gaps):
+    """The ascending tuple of all fences in some gaps."""
+    return tuple(sorted({name for gap in gaps for name in gap}))
