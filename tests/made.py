@@ -5,7 +5,8 @@ import random
 from coretower.books import KINDS, PAIRS, READS, WRITES, Book, Pairs
 from coretower.builds import Build, Operation
 from coretower.clients import always, once
-from tests.stand_ins import PlainChooser, PlainPool, PlainRecipe
+from coretower.recipes import Recipe
+from tests.stand_ins import PlainChooser, PlainPool
 
 PLAIN_LOCALS = ("a", "b")
 LINK_LOCALS = ("p", "q")
@@ -98,15 +99,18 @@ def random_book(source, fences=()):
     return Book(random_pairs(source), fences={name: random_pairs(source) for name in fences})
 
 
-def random_recipe(source, book, fences=()):
-    target = random_book(source, fences)
-    groups = [READS, WRITES, ("both",)]
-    some = lambda: tuple(sorted(name for name in target.fences() if source.random() < 0.3))
-    rows = {kind: (some(), source.choice([group for group in groups if kind in group][0]), some()) for kind in KINDS}
-    rows["return"] = some()
-    for name in book.fences():
-        rows[name] = some()
-    return PlainRecipe(book, target, rows)
+def random_recipe(source, book, fences=(), chance=0.3):
+    recipe = Recipe(book, random_book(source, fences))
+    names = recipe.target.fences()
+
+    def some():
+        return tuple(name for name in names if source.random() < chance)
+    for kind in KINDS:
+        group = [group for group in (READS, WRITES, ("both",)) if kind in group][0]
+        recipe[kind] = (some(), source.choice(group), some())
+    for name in book.fences() + ["return"]:
+        recipe[name] = some()
+    return recipe
 
 
 def random_client(source, names):

@@ -26,20 +26,3 @@ class PlainChooser:
 
     def states(self):
         return list(self._states)
-
-
-class PlainRecipe:
-    def __init__(self, source, target, rows=None):
-        self.source = source
-        self.target = target
-        self._rows = {kind: ((), kind, ()) for kind in ("read", "acquire", "write", "release", "both")}
-        self._rows["return"] = ()
-        for fence in source.fences():
-            self._rows[fence] = (fence,) if fence in target.fences() else ("full",)
-        self._rows.update(rows or {})
-
-    def __getitem__(self, name):
-        return self._rows[name]
-
-    def __iter__(self):
-        return iter(sorted(self._rows))

@@ -16,6 +16,10 @@ FUNCTIONS = {
     "clients": {"once": "*names", "always": "*names", "check_client": "client, names"},
     "spaces": {"dirty_run": "space"},
     "plain": {"plain_web": "table, client"},
+    "recipes": {"lost": "recipe", "additions": "recipe", "added": "recipe, chosen", "fewest": "recipe, most"},
+    "crosses": {"cross": "recipe, pair"},
+    "locking": {"reachable": "rule", "within": "a, b"},
+    "rings": {"ring_of": "rule", "strikes": "rule, most"},
 }
 SHAPE = {"rows": "self"}
 CLASSES = {
@@ -45,9 +49,20 @@ CLASSES = {
                         "between": "firsts, seconds"},
               "Book": {"__init__": "self, kept, *, fences=None", "fences": "self", "fence": "self, name",
                        "keeps": "self, first, second, *, between=()", "strict": "", "buffered": "", "loose": ""}},
+    "recipes": {"Recipe": {"__init__": "self, source, target", "__getitem__": None, "__setitem__": None, "__iter__": "self",
+                           "__ior__": None, "then": "self, second"}},
+    "crosses": {"Cross": {}},
+    "locking": {"Rule": {"__init__": "self, locks, entries=()", "locks": "self", "__contains__": None, "__len__": "self",
+                         "__iter__": "self", "__getitem__": None, "__and__": None, "__or__": None, "__sub__": None,
+                         "keeps": "self, steps", "every": "locks", "rising": "locks", "gate": "locks"}},
+    "rings": {"Ring": {"programs": "property", "wants": "property", "order": "property", "as_build": "self",
+                       "as_client": "self"}},
+    "plans": {"Plan": {"__init__": "self, guards", "__getitem__": None, "__contains__": None, "__iter__": "self",
+                       "fault": "self, build"}},
 }
 
-STATIC = [("papers", "Paper", ["same"]), ("books", "Pairs", ["between"]), ("books", "Book", ["strict", "buffered", "loose"])]
+STATIC = [("papers", "Paper", ["same"]), ("books", "Pairs", ["between"]), ("books", "Book", ["strict", "buffered", "loose"]),
+          ("locking", "Rule", ["every", "rising", "gate"])]
 
 
 class InterfaceTest(unittest.TestCase):

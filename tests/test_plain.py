@@ -76,7 +76,7 @@ class PlainTest(unittest.TestCase):
             table = Table({name: [(source.randrange(2), source.randrange(size)) for _ in range(size)] for name in names},
                           source.randrange(size))
             client = [source.choice([once(source.choice(names)), always(*names), once(names[0], names[-1]),
-                                     ((names[:1], names), True)]) for _ in range(source.randint(1, 3))]
+                                     ((names[:1], names, names[-1:]), True)]) for _ in range(source.randint(1, 3))]
             with self.subTest(seed=seed):
                 web = plain_web(table, client)
                 if len(web) < 400:

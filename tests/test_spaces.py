@@ -5,11 +5,12 @@ from coretower.builds import Build, Operation
 from coretower.clients import always, once
 from coretower.errors import BadClient, BadNumber, BadPool, BadSetting, NoFence, NoOperation, NoStanding, TooLarge
 from coretower.papers import lockstep
+from coretower.recipes import Recipe
 from coretower.spaces import Space, dirty_run
 from tests.machines import PlainMachine, TooMany
 from tests.made import random_build, random_settings
 from tests.samples import back, call, moves_of, step
-from tests.stand_ins import PlainChooser, PlainPool, PlainRecipe
+from tests.stand_ins import PlainChooser, PlainPool
 
 NOTHING = ("give", (0,), None)
 COUNT = Operation("count", [("read", "a", "x", None), ("write", "x", ("a", 1), None), ("give", ("a",), None)])
@@ -41,6 +42,13 @@ def read(local, cell, guard=None):
 
 def give(local, guard=None):
     return ("give", (local,), guard)
+
+
+def recipe_of(source, target, rows=()):
+    recipe = Recipe(source, target)
+    for name, row in dict(rows).items():
+        recipe[name] = row
+    return recipe
 
 
 def histories(space, most=6):
@@ -337,9 +345,15 @@ class BooksTest(unittest.TestCase):
 
     def test_fences_hold_a_return_back(self):
         book = Book(Pairs(), fences={"soft": Pairs([("write", "return")])})
+        space = Space(build_of(op("f", ("release", "x", (1,), None), ("fence", "soft", None), write("y", 1))), [once("f")],
+                      book=book)
+        self.assertEqual([deed for deed, _ in space.web.moves(space.web.go([call("f"), step(0)]))], [back(0), step(0)])
         for steps, free in [([write("x", 1), ("fence", "soft", None)], False), ([("fence", "soft", None), write("x", 1)], True),
                             ([write("x", 1), ("fence", "soft", None), write("y", 1)], False),
-                            ([("release", "x", (1,), None), ("fence", "soft", None)], True)]:
+                            ([("release", "x", (1,), None), ("fence", "soft", None)], True),
+                            ([("release", "x", (1,), None), ("fence", "soft", None), write("y", 1)], True),
+                            ([("release", "x", (1,), None), write("y", 1), ("fence", "soft", None)], False),
+                            ([write("x", 1), ("release", "z", (1,), None), ("fence", "soft", None), write("y", 1)], False)]:
             space = Space(build_of(op("f", *steps)), [once("f")], book=book)
             self.assertEqual(space.web.moves(1)[0][0] == back(0), free, steps)
 
@@ -411,7 +425,7 @@ class RecipesTest(unittest.TestCase):
     def test_rows(self):
         target = Book(Pairs(), fences={"soft": Pairs()})
         source = Book(Pairs(), fences={"old": Pairs()})
-        recipe = PlainRecipe(source, target, {
+        recipe = recipe_of(source, target, {
             "read": (("soft",), "acquire", ()), "write": ((), "release", ("full", "soft")), "old": ("full",), "return": ("soft",)})
         steps = [read("a", "x"), write("y", 1), ("fence", "old", None), read("b", "z"), ("give", (0,), None)]
         space = Space(build_of(op("f", *steps)), [once("f")], recipe=recipe, window=3)
@@ -420,7 +434,7 @@ class RecipesTest(unittest.TestCase):
 
     def test_return_fences_are_put_when_the_call_becomes_ready(self):
         book = Book(Pairs())
-        recipe = PlainRecipe(book, book, {"return": ("full",)})
+        recipe = recipe_of(book, book, {"return": ("full",)})
         for steps in ([write("x", 1)], [write("x", 1), give(1)]):
             space = Space(build_of(op("f", *steps)), [once("f")], recipe=recipe)
             self.assertEqual(space.behind(1, 0), ("full",))
@@ -429,10 +443,10 @@ class RecipesTest(unittest.TestCase):
         self.assertEqual(space.behind(1, 0), ())
 
     def test_the_target_keeps(self):
-        recipe = PlainRecipe(Book.strict(), Book.buffered())
+        recipe = recipe_of(Book.strict(), Book.buffered())
         space = Space(build_of(op("f", write("x", 1), read("a", "y"))), [once("f")], recipe=recipe)
         self.assertEqual([deed for deed, _ in space.web.moves(1)], [step(0), step(1)])
-        recipe = PlainRecipe(Book.strict(), Book.buffered(), {"write": ((), "write", ("full",))})
+        recipe = recipe_of(Book.strict(), Book.buffered(), {"write": ((), "write", ("full",))})
         space = Space(build_of(op("f", write("x", 1), read("a", "y"))), [once("f")], recipe=recipe)
         self.assertEqual([deed for deed, _ in space.web.moves(1)], [step(0)])
 
@@ -481,6 +495,16 @@ class NodesTest(unittest.TestCase):
         with self.assertRaises(TooLarge) as caught:
             Space(linked_build(op("f", *steps)), [always("f")])
         self.assertEqual(caught.exception.bound, 4000)
+
+    def test_numbers_of_nodes_are_no_numbers_of_the_base(self):
+        steps = [("take", "p", None), ("take", "q", None), ("write", "top", ("q",), None), ("read", "p", "top", None),
+                 give(1, ("p", "=", ("q",)))]
+        build = Build(2, {"top": 0}, [op("f", *steps)], fields=("val",), links=("top", "p", "q"), limit=2)
+        for more in ({}, {"pool": PlainPool("first", 2)}):
+            self.assertEqual(histories(Space(build, [once("f")], **more))[-1], [call("f"), back(1)])
+        steps = [("take", "p", None), ("take", "q", None), give(1, ("q", "=", ("p",))), give(1, ("q", "=", (0,)))]
+        build = Build(2, {"top": 0}, [op("f", *steps)], fields=("val",), links=("top", "p", "q"), limit=2)
+        self.assertEqual(histories(Space(build, [once("f")]))[-1], [call("f"), back(0)])
 
     def test_guards_of_links(self):
         steps = [("take", "p", None), ("read", "q", "top", None), ("write", "x", (1,), ("q", "=", ("p",))),
@@ -589,7 +613,7 @@ class ChoosersTest(unittest.TestCase):
 class RefusalsTest(unittest.TestCase):
     def setUp(self):
         self.build = linked_build(op("f", ("fence", "soft", None), NOTHING), limit=2, cells={"x": 0, "top": 0})
-        self.bad = {"joined": True, "book": Book.strict(), "recipe": PlainRecipe(Book.strict(), Book.strict()), "window": 4,
+        self.bad = {"joined": True, "book": Book.strict(), "recipe": recipe_of(Book.strict(), Book.strict()), "window": 4,
                     "pool": PlainPool("last", 1), "chooser": PlainChooser(2, [(((0, 1),), (0, 0))])}
 
     def refused(self, error, client, *names, **more):
@@ -629,11 +653,11 @@ class RefusalsTest(unittest.TestCase):
         steps = [("fence", "b", None), ("fence", "a", ("x", "=", (1,)))]
         build = build_of(op("f", ("fence", "full", None), NOTHING), op("g", *steps))
         book = Book(Pairs(PAIRS), fences={"b": Pairs()})
-        for more in ({"book": book}, {"recipe": PlainRecipe(book, Book(Pairs(), fences={"a": Pairs()}))}):
+        for more in ({"book": book}, {"recipe": recipe_of(book, Book(Pairs(), fences={"a": Pairs()}))}):
             with self.assertRaises(NoFence) as caught:
                 Space(build, [once("f")], **more)
             self.assertEqual(caught.exception.name, "a")
-        Space(build, [once("f")], recipe=PlainRecipe(Book(Pairs(), fences={"a": Pairs(), "b": Pairs()}), book))
+        Space(build, [once("f")], recipe=recipe_of(Book(Pairs(), fences={"a": Pairs(), "b": Pairs()}), book))
 
     def test_no_standing(self):
         space = Space(build_of(GET), [once("get")])
