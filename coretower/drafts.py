@@ -4,10 +4,8 @@ from coretower.books import KINDS
 from coretower.steps import holds, worth_of
 from coretower.ways import fences_of
 
-# A call that is not open.
-NO_CALL = (None, 0, 0, (), None)
-# A caller at its beginning, as Draft.told tells it.
-IDLE = ((), ((),), (), NO_CALL)
+# A caller at its beginning, as Draft.told tells it; the last part is that of no call.
+IDLE = ((), ((),), (), (None, 0, 0, (), None))
 
 
 class Draft:

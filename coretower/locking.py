@@ -56,7 +56,7 @@ class Rule:
         """Whether a list of any values is a program that keeps the rule."""
         held = ()
         for step in steps:
-            if not is_lock_step(step, self._locks):
+            if not is_lock_step(step):
                 return False
             word, name = step
             if word == "lock" and (held, name) not in self._entries:
@@ -119,9 +119,9 @@ def check_same_locks(a, b):
         raise OtherLocks()
 
 
-def is_lock_step(step, locks):
-    """Whether this, any value, is a lock or free step for one of the locks."""
-    return isinstance(step, tuple) and len(step) == 2 and step[0] in ("lock", "free") and step[1] in locks
+def is_lock_step(step):
+    """Whether this, any value, is a lock or free step, whatever it names."""
+    return isinstance(step, tuple) and len(step) == 2 and step[0] in ("lock", "free")
 
 
 def held_after(held, name, locks):

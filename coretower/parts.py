@@ -110,6 +110,6 @@ def waits_for_older(entries, gaps, at, way):
         older_kind, older_place, older_node, _, _, _ = entries[older]
         if (place, node) == (older_place, older_node):
             return True
-        if way.keeps(older_kind, kind, fences_of(gaps[older + 1:at + 1])):
+        if way.keeps_order(older_kind, kind, fences_of(gaps[older + 1:at + 1])):
             return True
     return False

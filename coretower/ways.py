@@ -24,7 +24,7 @@ class Way:
         """The fences that are issued for a fence, or when a call becomes ready for "return"."""
         return self._fence_rows.get(name, ())
 
-    def keeps(self, first, second, between):
+    def keeps_order(self, first, second, between):
         """Whether the order of two kinds is kept over some fences."""
         return self.target is not None and self.target.keeps(first, second, between=between)
 
@@ -33,7 +33,7 @@ class Way:
         if self.target is None:
             return not kinds
         for at, kind in enumerate(kinds):
-            if kind not in WRITES or self.keeps(kind, "return", fences_of(gaps[at + 1:])):
+            if kind not in WRITES or self.keeps_order(kind, "return", fences_of(gaps[at + 1:])):
                 return False
         return True
 

@@ -88,6 +88,33 @@ def random_build(seed, most=4, linked=None, locks=0.4, fences=("full",)):
                  links=("top", "next", "p", "q"))
 
 
+def random_row_build(seed):
+    """Operations that take nodes, write all of their fields, put them in rows and take them out again."""
+    source = random.Random(seed)
+    blocks = [
+        [("take", "p", None)], [("take", "q", None)], [("drop", "p", None)], [("drop", "q", None)],
+        [("read", "q", "top", None)], [("write", "top", ("p",), None)], [("write", ("next", "p"), ("q",), None)],
+        [("write", ("val", "p"), ("a", 1), None)], [("read", "a", ("val", "p"), None)], [("read", "p", ("next", "q"), None)],
+        [("swap", "q", "top", ("p",), None)], [("cas", "b", "top", ("q",), ("p",), None)], [("read", "p", "head", None)],
+        [("write", "head", ("q",), None)], [("cas", "b", ("next", "p"), (0,), ("q",), None)],
+    ]
+    starts = [
+        [("take", "p", None), ("write", ("val", "p"), (1,), None), ("read", "q", "top", None)],
+        [("take", "q", None), ("take", "p", None), ("write", ("val", "q"), (1,), None), ("write", ("next", "p"), ("q",), None)],
+        [("read", "q", "top", None), ("read", "p", ("next", "q"), None), ("write", "top", ("p",), None), ("drop", "q", None)],
+    ]
+    operations = []
+    for name in ("f", "g"):
+        steps = list(source.choice(starts))
+        for _ in range(source.randint(1, 3)):
+            steps += source.choice(blocks)
+        steps += [("read", "a", ("val", "q"), None), ("give", ("a",), None)]
+        operations.append(Operation(name, steps))
+    fields = source.choice([("val", "next"), ("next", "val")])
+    return Build(source.choice([2, 3]), {"head": 0, "top": 0}, operations, fields=fields, limit=source.choice([2, 3]),
+                 links=("top", "head", "next", "p", "q"))
+
+
 def random_pairs(source, chance=0.4):
     return Pairs([pair for pair in PAIRS if source.random() < chance])
 

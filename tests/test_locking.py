@@ -144,6 +144,7 @@ class KeepsTest(unittest.TestCase):
             self.assertIs(rule.keeps([item]), False)
             self.assertIs(rule.keeps(good[:1] + [item] + good[1:]), False)
             self.assertIs(rule.keeps(good + [item]), False)
+            self.assertIs(rule.keeps([item, item]), False)
         self.assertIs(rule.keeps([]), True)
         self.assertIs(Rule(("a",)).keeps([]), True)
         self.assertIs(rule.keeps(good[:1]), False)

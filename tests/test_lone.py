@@ -134,7 +134,7 @@ class LoneTableTest(unittest.TestCase):
 
     def test_the_bound_of_deeds(self):
         """A call that counts for a while and then makes so many accesses: with the return, 4000 deeds are the most."""
-        def build_of(more):
+        def build_of(more, *ends):
             steps = [("read", "a", "one", None), ("write", "one", ("a", 1), None)]
             carry = ("a", "=", (4,))
             steps += [("read", "e", "zero", None), ("read", "e", "zero", carry)]
@@ -149,7 +149,7 @@ class LoneTableTest(unittest.TestCase):
             steps += [("write", "zero", (0,), last)] * more
             steps += [("give", (3,), last)]
             cells = {"one": 0, "two": 0, "three": 0, "four": 1, "zero": 0}
-            return Build(5, cells, [Operation("long", steps, turns=0)])
+            return Build(5, cells, [Operation("long", [*ends[:1], *steps, *ends[1:]], turns=0)])
         machine = PlainMachine(build_of(0), [always("long")])
         deeds = self.deeds_of(machine)
         self.assertLess(deeds, 4000)
@@ -161,6 +161,9 @@ class LoneTableTest(unittest.TestCase):
             with self.assertRaises(TooLarge) as caught:
                 run(build_of(more + 1))
             self.assertEqual(caught.exception.bound, 4000)
+            # Locks are taken and freed by deeds, too.
+            with self.assertRaises(TooLarge):
+                run(build_of(0, ("lock", "m"), ("free", "m")))
 
     def deeds_of(self, machine):
         """How many steps a call makes before its return."""

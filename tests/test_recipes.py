@@ -342,6 +342,12 @@ class AdditionsTest(unittest.TestCase):
             told.append(len((fewest(recipe, 2) or [(0,) * 3])[0]))
         self.assertEqual(set(told), {0, 1, 2, 3})
 
+    def test_fewest_with_additions_beside_each_other(self):
+        recipe = Recipe(Book(Pairs([("acquire", "read"), ("write", "acquire")])), Book(Pairs()))
+        found = fewest(recipe, 2)
+        self.assertIn((("acquire", "ahead", "full"), ("acquire", "behind", "full")), found)
+        self.assertEqual(found, self.plain_fewest(recipe, 2))
+
     def test_wrong_numbers(self):
         for most in (-1, 3, True, None, "1", (1,)):
             for recipe in (Recipe(SOFT, SOFT), Recipe(Book.strict(), SOFT)):

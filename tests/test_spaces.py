@@ -8,7 +8,7 @@ from coretower.papers import lockstep
 from coretower.recipes import Recipe
 from coretower.spaces import Space, dirty_run
 from tests.machines import PlainMachine, TooMany
-from tests.made import random_build, random_settings
+from tests.made import random_build, random_row_build, random_settings
 from tests.samples import back, call, moves_of, step
 from tests.stand_ins import PlainChooser, PlainPool
 
@@ -81,6 +81,9 @@ class AgainstTheDocumentTest(unittest.TestCase):
     def compare(self, seed, **more):
         extra = ("soft",) if seed % 3 == 0 else ()
         build = random_build(seed, fences=("full",) + extra, **more)
+        return self.compare_build(seed, build, extra)
+
+    def compare_build(self, seed, build, extra=()):
         client, settings = random_settings(seed, build, extra)
         plain = PlainMachine(build, client, **settings)
         try:
@@ -115,6 +118,10 @@ class AgainstTheDocumentTest(unittest.TestCase):
     def test_nodes(self):
         done = sum(self.compare(seed, linked=True) for seed in range(200, 320))
         self.assertGreater(done, 90)
+
+    def test_rows_of_nodes(self):
+        done = sum(self.compare_build(seed, random_row_build(seed)) for seed in range(600, 720))
+        self.assertGreater(done, 40)
 
 
 class FactsTest(unittest.TestCase):
@@ -421,6 +428,13 @@ class BooksTest(unittest.TestCase):
         self.assertEqual([deed for deed, _ in space.web.moves(at)][-1], step(0))
 
 
+    def test_fences_ahead_of_both_entries_do_not_hold_back(self):
+        book = Book(Pairs(), fences={"soft": Pairs([("read", "write")])})
+        steps = [write("x", 1), ("fence", "soft", None), read("a", "y"), write("z", 1), ("fence", "soft", None)]
+        space = Space(build_of(op("f", *steps)), [once("f")], book=book, window=3)
+        self.assertEqual(steps_at(space, 1), [0, 1, 2])
+
+
 class RecipesTest(unittest.TestCase):
     def test_rows(self):
         target = Book(Pairs(), fences={"soft": Pairs()})
@@ -563,6 +577,31 @@ class PoolsTest(unittest.TestCase):
         self.assertIn(step(), [deed for deed, _ in space.web.moves(space.web.go(run))])
         run.append(call("g", 1))
         self.assertIn(step(), [deed for deed, _ in space.web.moves(space.web.go(run))])
+
+    def test_quiet_does_not_wait_for_callers_without_a_call(self):
+        build = linked_build(op("f", ("take", "p", None), ("drop", "p", None)), op("g", NOTHING))
+        space = Space(build, [once("f", "f"), once("g")], pool=PlainPool("quiet", 1))
+        run = [call("f"), step(), step(), back(0), call("f"), step()]
+        self.assertEqual(space.out(space.web.go(run)), 1)
+        run = run[:2] + [call("g", 1), back(0, 1)] + run[2:]
+        self.assertEqual(space.out(space.web.go(run)), 1)
+
+    def test_only_quiet_tells_apart_who_was_there_when_a_node_was_dropped(self):
+        build = linked_build(op("f", ("take", "p", None), ("drop", "p", None)), op("g", NOTHING))
+        runs = [[call("f"), step(), step(), call("g", 1)], [call("f"), step(), call("g", 1), step()]]
+        same = []
+        for rule in ("last", "first", "unheld", "quiet"):
+            space = Space(build, [once("f"), once("g")], pool=PlainPool(rule, 1))
+            same.append(space.web.go(runs[0]) == space.web.go(runs[1]))
+        self.assertEqual(same, [True, True, True, False])
+
+    def test_a_node_that_is_dropped_twice_waits_once(self):
+        steps = [("take", "p", None), ("drop", "p", None), ("drop", "p", None), ("take", "p", None), ("take", "q", None)]
+        for rule in ("last", "first"):
+            space = Space(linked_build(op("f", *steps), limit=2), [once("f")], pool=PlainPool(rule, 2))
+            at = space.web.go([call("f")] + [step()] * 5)
+            self.assertEqual([space.out(space.web.go([call("f")] + [step()] * most)) for most in range(6)], [0, 1, 0, 0, 1, 2])
+            self.assertEqual(space.called(at, 0), "")
 
     def test_dirty_standings(self):
         steps = [("take", "p", None), ("write", "top", ("p",), None), ("drop", "p", None)]
