@@ -31,7 +31,7 @@ class Draft:
         call = (self.name, self.turn, self.at, tuple(list(self.known.values())), self.answer)
         return (tuple(self.entries), tuple(self.gaps), tuple(self.held), call)
 
-    def begin(self, name, script):
+    def start(self, name, script):
         """Open a call."""
         self.name = name
         self.turn = 0

@@ -14,8 +14,9 @@ class LoneCalls:
     """The calls of one caller, in order and on fresh nodes."""
 
     def __init__(self, build):
+        names = build.names()
         # The caller may call anything whenever it has no open call, so it is at the same menu at all times.
-        self._machine = Machine(build, [always(*build.names())], way_of(None, None, 2), FreshNodes(build), None, False)
+        self._machine = Machine(build, [always(*names)], way_of(None, None, 2), FreshNodes(build), None, False)
         self._told = {}
 
     def begin(self):

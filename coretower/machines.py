@@ -150,7 +150,7 @@ class Machine:
             names[node] = len(names)
         cells = tuple([names[worth] if at in self._linked_cells else worth for at, worth in enumerate(cells)])
         parts = tuple([self.parts.renamed(number, names) for number in parts])
-        return (cells, menus, parts, self._nodes.renamed(store, found, names, self._linked_fields), mark)
+        return (cells, menus, parts, self._nodes.renamed_store(store, found, names, self._linked_fields), mark)
 
 
 def changed(row, at, worth):

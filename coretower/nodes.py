@@ -54,7 +54,7 @@ class FreshNodes:
         """The list of the nodes that can come back."""
         return []
 
-    def renamed(self, store, found, names, linked):
+    def renamed_store(self, store, found, names, linked):
         """The store of the found nodes by their new names; linked are the places of the fields that are links."""
         fields, flags, many = store
         rows = [renamed_fields(fields[node - 1], names, linked) for node in found]

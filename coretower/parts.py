@@ -55,7 +55,7 @@ class Parts:
         """The number of the part behind a call."""
         if (number, name) not in self._after:
             draft = Draft(self._parts[number].frozen, self._scripts)
-            draft.begin(name, self._scripts[name])
+            draft.start(name, self._scripts[name])
             self._issuer.issue(draft)
             self._after[(number, name)] = self._number(draft.told())
         return self._after[(number, name)]

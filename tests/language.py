@@ -90,6 +90,8 @@ class Finder:
             if isinstance(node, ast.Assign):
                 if len(node.targets) != 1 or not isinstance(node.targets[0], ast.Name):
                     self.tell(node, "L3", "no plain assignment")
+                elif any(isinstance(part, (ast.Name, ast.Call, ast.comprehension)) for part in ast.walk(node.value)):
+                    self.tell(node, "L3", "a value that is not written out")
             elif isinstance(node, ast.Expr):
                 if id(node.value) not in self.docstrings:
                     self.tell(node, "L3", "code at module level")
@@ -225,6 +227,10 @@ class Finder:
                 or isinstance(parent, ast.Assign) and isinstance(parent.targets[0], ast.Name))
         if not fine:
             self.tell(node, "L24", "a set where none may stand")
+
+    def see_Starred(self, node):
+        if not isinstance(node.value, (ast.Name, ast.Attribute, ast.List, ast.Tuple)):
+            self.tell(node, "L7", "a star over what is no name")
 
     def see_Compare(self, node):
         for operator, right in zip(node.ops, node.comparators):

@@ -36,6 +36,7 @@ class FinderTest(unittest.TestCase):
             ("class C:\n    def __hash__(self):\n        return 3\n", "L5"),
             ("def f(xs):\n    return reversed(xs)\n", "L5"), ("def f(x):\n    try:\n        pass\n"
              "    except ValueError:\n        pass\n", "L19"),
+            ("def f(xs):\n    return f(*xs.told())\n", "L7"), ("A = 1\nB = (A, 2)\n", "L3"),
             ("def f(xs):\n    for x in xs:\n        xs.append(x)\n", "L23"),
             ("def f(c):\n    for x in enumerate(c.xs):\n        c.xs[0] = x\n", "L23"),
             ("def f(xs):\n    while xs:\n        ys = []\n        for x in xs:\n            ys.append(x)\n"
