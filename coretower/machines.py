@@ -4,6 +4,7 @@ from coretower.books import KINDS, READS, WRITES
 from coretower.clients import menu_after, menu_deeds
 from coretower.nodes import field_of, with_field
 from coretower.parts import Parts
+from coretower.tuples import changed
 
 
 class Machine:
@@ -151,11 +152,6 @@ class Machine:
         cells = tuple([names[worth] if at in self._linked_cells else worth for at, worth in enumerate(cells)])
         parts = tuple([self.parts.renamed(number, names) for number in parts])
         return (cells, menus, parts, self._nodes.renamed_store(store, found, names, self._linked_fields), mark)
-
-
-def changed(row, at, worth):
-    """A tuple with this at a place instead."""
-    return row[:at] + (worth,) + row[at + 1:]
 
 
 def outcome(kind, worths, old):

@@ -2,6 +2,7 @@
 
 from coretower.clients import check_client, menu_after, menu_deeds
 from coretower.exploring import Explored
+from coretower.tuples import changed
 
 
 class PlainCalls:
@@ -45,7 +46,7 @@ class PlainCalls:
             table = self._table
             answer, at = table(name, at)
             name = None
-        return (at, callers[:caller] + ((menu, name, answer),) + callers[caller + 1:])
+        return (at, changed(callers, caller, (menu, name, answer)))
 
 
 def plain_web(table, client):

@@ -3,9 +3,10 @@
 from coretower.clients import check_client
 from coretower.errors import BadNumber, BadPool, BadSetting, NoFence
 from coretower.exploring import Explored
-from coretower.kinds import is_number
+from coretower.kinds import is_below, is_number
 from coretower.machines import Machine
 from coretower.nodes import FreshNodes, PoolNodes
+from coretower.reaching import found_from, run_to
 from coretower.turns import Turns
 from coretower.ways import way_of
 
@@ -17,20 +18,11 @@ class Space:
         check_client(client, build.names())
         if joined and (pool is not None or book is not None or recipe is not None):
             raise BadSetting("joined")
-        if book is not None and recipe is not None:
-            raise BadSetting("recipe")
-        if not is_number(window) or window not in (2, 3):
-            raise BadNumber(window)
-        self._nodes = FreshNodes(build) if pool is None else PoolNodes(build, pool)
-        if pool is not None and pool.size < build.limit:
-            raise BadPool(pool.size)
-        turns = None if chooser is None else Turns(chooser)
-        if turns is not None and turns.callers != len(client):
-            raise BadSetting("chooser")
-        way = way_of(book, recipe, window)
-        check_fences(build, way.source)
+        check_settings(build, client, pool, book, recipe, window, chooser)
         self._build = build
-        self._machine = Machine(build, client, way, self._nodes, turns, joined)
+        self._nodes = FreshNodes(build) if pool is None else PoolNodes(build, pool)
+        turns = None if chooser is None else Turns(chooser)
+        self._machine = Machine(build, client, way_of(book, recipe, window), self._nodes, turns, joined)
         explored = Explored(self._machine)
         self._states = explored.stands
         self.web = explored.web
@@ -41,6 +33,11 @@ class Space:
 
     def _parts_at(self, at):
         return [self._machine.parts.part(number) for number in self._state(at)[2]]
+
+    def _part_at(self, at, caller):
+        parts = self._parts_at(at)
+        # A caller that there is not is at nothing, as one that has not begun.
+        return parts[caller] if is_below(caller, len(parts)) else self._machine.parts.part(self._machine.parts.idle())
 
     def memory(self, at):
         """A dict from the cells that are no links to what they hold."""
@@ -63,16 +60,16 @@ class Space:
 
     def called(self, at, caller):
         """The operation of the open call of a caller, "" if it is ready, or None."""
-        return self._parts_at(at)[caller].name
+        return self._part_at(at, caller).name
 
     def pending(self, at, caller):
         """The list of the pending entries: the kind, the name of what it is at, the fences directly ahead."""
-        part = self._parts_at(at)[caller]
+        part = self._part_at(at, caller)
         return [(entry[0], entry[1], gap) for entry, gap in zip(part.entries, part.gaps)]
 
     def behind(self, at, caller):
         """The tuple of the fences behind the last entry."""
-        return self._parts_at(at)[caller].gaps[-1]
+        return self._part_at(at, caller).gaps[-1]
 
     def dirty(self, at):
         """Whether a node of the pool can come back although it is found."""
@@ -81,10 +78,23 @@ class Space:
         return any([node in found for node in self._nodes.eligible(state[3], found)])
 
 
+def check_settings(build, client, pool, book, recipe, window, chooser):
+    """Raise for what a machine of a build cannot have, given a client that has been checked."""
+    if book is not None and recipe is not None:
+        raise BadSetting("recipe")
+    if not is_number(window) or window not in (2, 3):
+        raise BadNumber(window)
+    if pool is not None and pool.size < build.limit:
+        raise BadPool(pool.size)
+    if chooser is not None and chooser.callers != len(client):
+        raise BadSetting("chooser")
+    source = book if recipe is None else recipe.source
+    if source is not None:
+        check_fences(build, source)
+
+
 def check_fences(build, book):
-    """Raise NoFence for the first fence that a step names and this book, if there is one, does not have."""
-    if book is None:
-        return
+    """Raise NoFence for the first fence that a step names and the book does not have."""
     for name in build:
         for step in build[name].steps():
             if step[0] == "fence":
@@ -93,25 +103,8 @@ def check_fences(build, book):
 
 def dirty_run(space):
     """A shortest run to a dirty standing, or None."""
-    back = {0: None}
-    waiting = [0]
-    at = 0
-    while at < len(waiting):
-        stand = waiting[at]
-        if space.dirty(stand):
-            return run_to(stand, back)
-        for deed, goal in space.web.moves(stand):
-            if goal not in back:
-                back[goal] = (stand, deed)
-                waiting.append(goal)
-        at += 1
+    back = found_from(space.web)
+    for at in back:
+        if space.dirty(at):
+            return run_to(at, back)
     return None
-
-
-def run_to(stand, back):
-    """The run by which a standing was found first."""
-    run = []
-    while back[stand] is not None:
-        stand, deed = back[stand]
-        run.append(deed)
-    return run[::-1]

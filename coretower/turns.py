@@ -5,7 +5,6 @@ class Turns:
     """A chooser, with what it told before."""
 
     def __init__(self, chooser):
-        self.callers = chooser.callers
         self._chooser = chooser
         self._let_by = {}
         self._after = {}

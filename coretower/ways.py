@@ -4,13 +4,12 @@ from coretower.books import KINDS, WRITES
 
 
 class Way:
-    """Whose fences steps may name, which book keeps orders, what is issued for what, and the window.
+    """Which book keeps orders, what is issued for what, and the window.
 
     In order there is no book: fences do nothing, and no two entries are pending.
     """
 
-    def __init__(self, source, target, rows, fence_rows, window):
-        self.source = source
+    def __init__(self, target, rows, fence_rows, window):
         self.target = target
         self.window = window
         self._kind_rows = rows
@@ -43,11 +42,11 @@ def way_of(book, recipe, window):
     if recipe is not None:
         names = recipe.source.fences() + ["return"]
         rows = {kind: recipe[kind] for kind in KINDS}
-        return Way(recipe.source, recipe.target, rows, {name: recipe[name] for name in names}, window)
+        return Way(recipe.target, rows, {name: recipe[name] for name in names}, window)
     rows = {kind: ((), kind, ()) for kind in KINDS}
     if book is None:
-        return Way(None, None, rows, {}, 1)
-    return Way(book, book, rows, {name: (name,) for name in book.fences()}, window)
+        return Way(None, rows, {}, 1)
+    return Way(book, rows, {name: (name,) for name in book.fences()}, window)
 
 
 def fences_of(gaps):

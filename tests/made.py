@@ -4,9 +4,10 @@ import random
 
 from coretower.books import KINDS, PAIRS, READS, WRITES, Book, Pairs
 from coretower.builds import Build, Operation
+from coretower.choosers import Chooser
 from coretower.clients import always, once
+from coretower.pools import Pool
 from coretower.recipes import Recipe
-from tests.stand_ins import PlainChooser, PlainPool
 
 PLAIN_LOCALS = ("a", "b")
 LINK_LOCALS = ("p", "q")
@@ -163,7 +164,7 @@ def random_chooser(source, callers):
         cut = source.randint(1, callers)
         groups = tuple(tuple(sorted(group)) for group in (everyone[:cut], everyone[cut:]) if group)
         states.append((groups, tuple(source.randrange(many) for _ in range(callers))))
-    return PlainChooser(callers, states)
+    return Chooser(callers, states)
 
 
 def random_settings(seed, build, fences=()):
@@ -182,7 +183,28 @@ def random_settings(seed, build, fences=()):
         more["window"] = source.choice([2, 3])
     if way != "joined" and build.limit and source.random() < 0.6:
         rule = source.choice(["last", "first", "quiet", "unheld"])
-        more["pool"] = PlainPool(rule, source.randint(build.limit, 4))
+        more["pool"] = Pool(rule, source.randint(build.limit, 4))
     if source.random() < 0.3:
         more["chooser"] = random_chooser(source, len(client))
     return client, more
+
+
+def random_object(seed):
+    """A build of usual operations, with a section here and there; its machines often answer as they should."""
+    source = random.Random(seed)
+    operations = []
+    for name in ("f", "g", "h")[:source.choice([1, 2, 2, 3])]:
+        cell, other = source.sample("xy", 2)
+        kinds = [
+            [("read", "a", cell, None)], [("read", "a", cell, None), ("write", cell, ("a", 1), None)],
+            [("write", cell, (source.randrange(2),), None)], [("write", cell, (1,), None), ("write", other, (1,), None)],
+            [("read", "a", cell, None), ("read", "b", other, None)], [("swap", "a", cell, (source.randrange(2),), None)],
+            [("read", "a", cell, None), ("cas", "b", cell, ("a",), ("a", 1), None)],
+            [("read", "a", cell, None), ("write", other, ("a", 1), None)],
+        ]
+        steps = list(source.choice(kinds)) + (source.choice(kinds) if source.random() < 0.2 else [])
+        if source.random() < 0.4:
+            first, last = sorted(source.choices(range(len(steps) + 1), k=2))
+            steps = steps[:first] + [("lock", "m")] + steps[first:last] + [("free", "m")] + steps[last:]
+        operations.append(Operation(name, steps + [("give", source.choice([("a",), ("a", "b", "b")]), None)]))
+    return Build(source.choice([2, 3]), {"x": 0, "y": 0}, operations)

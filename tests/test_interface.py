@@ -20,6 +20,10 @@ FUNCTIONS = {
     "crosses": {"cross": "recipe, pair"},
     "locking": {"reachable": "rule", "within": "a, b"},
     "rings": {"ring_of": "rule", "strikes": "rule, most"},
+    "choosers": {"lets": "chooser, row", "parting_row": "a, b"},
+    "traces": {"order_of": "table, trace", "orders_of": "table, trace", "breaks": "table, trace",
+               "answers": "table, trace, caller", "part": "trace, names"},
+    "towers": {"by_rule": "tower, name"},
 }
 SHAPE = {"rows": "self"}
 CLASSES = {
@@ -59,10 +63,20 @@ CLASSES = {
                        "as_client": "self"}},
     "plans": {"Plan": {"__init__": "self, guards", "__getitem__": None, "__contains__": None, "__iter__": "self",
                        "fault": "self, build"}},
+    "pools": {"Pool": {"__init__": "self, rule, size"}},
+    "choosers": {"Chooser": {"__init__": "self, callers, states", "__len__": "self", "__call__": "self, state, able",
+                             "after": "self, state, caller", "states": "self", "free": "callers", "ranked": "callers",
+                             "rotating": "callers"}},
+    "ends": {"Ends": {"__init__": "self, web", "stuck": "self", "some": "self", "each": "self", "fair": "self",
+                      "singly": "self", "stuck_run": "self", "lasso": "self, word", "falls": "self"}},
+    "towers": {"Tower": {"__init__": "self, table, build, client, *, pool=None, book=None, recipe=None, window=2, "
+                                     "chooser=None", "rungs": "self", "__getitem__": None, "__iter__": "self",
+                         "space": "self, name", "word": "self, name", "whole": "self", "game": "self, name",
+                         "papers": "self", "paper": "self", "blame": "self, run"}},
 }
 
 STATIC = [("papers", "Paper", ["same"]), ("books", "Pairs", ["between"]), ("books", "Book", ["strict", "buffered", "loose"]),
-          ("locking", "Rule", ["every", "rising", "gate"])]
+          ("locking", "Rule", ["every", "rising", "gate"]), ("choosers", "Chooser", ["free", "ranked", "rotating"])]
 
 
 class InterfaceTest(unittest.TestCase):

@@ -2,15 +2,16 @@ import unittest
 
 from coretower.books import PAIRS, Book, Pairs
 from coretower.builds import Build, Operation
+from coretower.choosers import Chooser
 from coretower.clients import always, once
 from coretower.errors import BadClient, BadNumber, BadPool, BadSetting, NoFence, NoOperation, NoStanding, TooLarge
 from coretower.papers import lockstep
+from coretower.pools import Pool
 from coretower.recipes import Recipe
 from coretower.spaces import Space, dirty_run
 from tests.machines import PlainMachine, TooMany
 from tests.made import random_build, random_row_build, random_settings
 from tests.samples import back, call, moves_of, step
-from tests.stand_ins import PlainChooser, PlainPool
 
 NOTHING = ("give", (0,), None)
 COUNT = Operation("count", [("read", "a", "x", None), ("write", "x", ("a", 1), None), ("give", ("a",), None)])
@@ -156,7 +157,7 @@ class FactsTest(unittest.TestCase):
         for seed, (build, client, ordered) in enumerate(self.small(range(500, 530), linked=True)):
             for rule in ("last", "first", "quiet", "unheld"):
                 try:
-                    space = Space(build, client, pool=PlainPool(rule, max(1, build.limit)))
+                    space = Space(build, client, pool=Pool(rule, max(1, build.limit)))
                 except TooLarge:
                     continue
                 if rule == "unheld":
@@ -491,7 +492,7 @@ class NodesTest(unittest.TestCase):
     def test_fields_are_0_when_a_node_is_taken_and_stay_when_it_is_dropped(self):
         steps = [("take", "p", None), ("write", ("val", "p"), (2,), None), ("drop", "p", None), ("read", "a", ("val", "p"), None),
                  ("take", "q", None), ("read", "b", ("val", "q"), None), ("give", ("a", "b"), None)]
-        for more in ({}, {"pool": PlainPool("last", 2)}, {"pool": PlainPool("first", 2)}):
+        for more in ({}, {"pool": Pool("last", 2)}, {"pool": Pool("first", 2)}):
             space = Space(linked_build(op("f", *steps)), [once("f")], **more)
             self.assertEqual(histories(space)[-1], [call("f"), back(2)])
 
@@ -514,7 +515,7 @@ class NodesTest(unittest.TestCase):
         steps = [("take", "p", None), ("take", "q", None), ("write", "top", ("q",), None), ("read", "p", "top", None),
                  give(1, ("p", "=", ("q",)))]
         build = Build(2, {"top": 0}, [op("f", *steps)], fields=("val",), links=("top", "p", "q"), limit=2)
-        for more in ({}, {"pool": PlainPool("first", 2)}):
+        for more in ({}, {"pool": Pool("first", 2)}):
             self.assertEqual(histories(Space(build, [once("f")], **more))[-1], [call("f"), back(1)])
         steps = [("take", "p", None), ("take", "q", None), give(1, ("q", "=", ("p",))), give(1, ("q", "=", (0,)))]
         build = Build(2, {"top": 0}, [op("f", *steps)], fields=("val",), links=("top", "p", "q"), limit=2)
@@ -538,7 +539,7 @@ class PoolsTest(unittest.TestCase):
         answers = {}
         for rule in ("last", "first", "quiet", "unheld"):
             for size in (2, 3):
-                space = Space(build, [once("leave", "look")], pool=PlainPool(rule, size))
+                space = Space(build, [once("leave", "look")], pool=Pool(rule, size))
                 answers[rule, size] = histories(space)[-1][-1][2]
         self.assertEqual(answers, {("last", 2): 0, ("last", 3): 0, ("first", 2): 1, ("first", 3): 0, ("quiet", 2): 1,
                                    ("quiet", 3): 0, ("unheld", 2): 0, ("unheld", 3): 0})
@@ -547,13 +548,13 @@ class PoolsTest(unittest.TestCase):
         steps = [("take", "p", None), ("write", "top", ("p",), None), ("drop", "p", None), ("take", "q", None),
                  give(1, ("p", "=", ("q",)))]
         for rule, answer in [("last", 1), ("first", 0), ("unheld", 0)]:
-            space = Space(linked_build(op("f", *steps)), [once("f")], pool=PlainPool(rule, 3))
+            space = Space(linked_build(op("f", *steps)), [once("f")], pool=Pool(rule, 3))
             self.assertEqual(histories(space)[-1], [call("f"), back(answer)], rule)
 
     def test_takes_that_are_held_back(self):
         steps = [("take", "p", None), ("drop", "p", None), ("take", "q", None), give(1, ("p", "=", ("q",)))]
         for rule, size, answer in [("quiet", 1, None), ("quiet", 2, 0), ("unheld", 1, None), ("unheld", 2, 0), ("last", 1, 1)]:
-            space = Space(linked_build(op("f", *steps)), [once("f")], pool=PlainPool(rule, size))
+            space = Space(linked_build(op("f", *steps)), [once("f")], pool=Pool(rule, size))
             at = space.web.go([call("f"), step(), step()])
             if answer is None:
                 self.assertEqual((space.web.moves(at), space.pending(at, 0)), ([], [("take", None, ())]))
@@ -563,12 +564,12 @@ class PoolsTest(unittest.TestCase):
     def test_no_take_is_held_back_when_no_more_may_be_out(self):
         steps = [("take", "p", None), ("take", "q", None), give(1, ("q", "=", (0,)))]
         for rule in ("last", "first", "quiet", "unheld"):
-            space = Space(linked_build(op("f", *steps)), [once("f")], pool=PlainPool(rule, 1))
+            space = Space(linked_build(op("f", *steps)), [once("f")], pool=Pool(rule, 1))
             self.assertEqual(histories(space)[-1], [call("f"), back(1)])
 
     def test_quiet_waits_for_all_calls_that_were_open(self):
         build = linked_build(op("f", ("take", "p", None), ("drop", "p", None)), op("g", NOTHING))
-        space = Space(build, [once("f", "f"), once("g", "g"), once("g")], pool=PlainPool("quiet", 1))
+        space = Space(build, [once("f", "f"), once("g", "g"), once("g")], pool=Pool("quiet", 1))
         run = [call("g", 1), call("f"), step(), call("g", 2), step(), back(0), call("f")]
         self.assertNotIn(step(), [deed for deed, _ in space.web.moves(space.web.go(run))])
         run.append(back(0, 2))
@@ -580,7 +581,7 @@ class PoolsTest(unittest.TestCase):
 
     def test_quiet_does_not_wait_for_callers_without_a_call(self):
         build = linked_build(op("f", ("take", "p", None), ("drop", "p", None)), op("g", NOTHING))
-        space = Space(build, [once("f", "f"), once("g")], pool=PlainPool("quiet", 1))
+        space = Space(build, [once("f", "f"), once("g")], pool=Pool("quiet", 1))
         run = [call("f"), step(), step(), back(0), call("f"), step()]
         self.assertEqual(space.out(space.web.go(run)), 1)
         run = run[:2] + [call("g", 1), back(0, 1)] + run[2:]
@@ -591,14 +592,14 @@ class PoolsTest(unittest.TestCase):
         runs = [[call("f"), step(), step(), call("g", 1)], [call("f"), step(), call("g", 1), step()]]
         same = []
         for rule in ("last", "first", "unheld", "quiet"):
-            space = Space(build, [once("f"), once("g")], pool=PlainPool(rule, 1))
+            space = Space(build, [once("f"), once("g")], pool=Pool(rule, 1))
             same.append(space.web.go(runs[0]) == space.web.go(runs[1]))
         self.assertEqual(same, [True, True, True, False])
 
     def test_a_node_that_is_dropped_twice_waits_once(self):
         steps = [("take", "p", None), ("drop", "p", None), ("drop", "p", None), ("take", "p", None), ("take", "q", None)]
         for rule in ("last", "first"):
-            space = Space(linked_build(op("f", *steps), limit=2), [once("f")], pool=PlainPool(rule, 2))
+            space = Space(linked_build(op("f", *steps), limit=2), [once("f")], pool=Pool(rule, 2))
             at = space.web.go([call("f")] + [step()] * 5)
             self.assertEqual([space.out(space.web.go([call("f")] + [step()] * most)) for most in range(6)], [0, 1, 0, 0, 1, 2])
             self.assertEqual(space.called(at, 0), "")
@@ -608,7 +609,7 @@ class PoolsTest(unittest.TestCase):
         build = linked_build(op("f", *steps))
         for rule, size, run in [("last", 1, 4), ("first", 1, 4), ("first", 2, None), ("last", 2, 4), ("quiet", 2, 5),
                                 ("unheld", 2, None)]:
-            space = Space(build, [once("f")], pool=PlainPool(rule, size))
+            space = Space(build, [once("f")], pool=Pool(rule, size))
             found = dirty_run(space)
             self.assertEqual(None if found is None else len(found), run, rule)
             if run is not None:
@@ -620,14 +621,14 @@ class PoolsTest(unittest.TestCase):
 
 class ChoosersTest(unittest.TestCase):
     def test_ranks(self):
-        ranked = PlainChooser(2, [(((0,), (1,)), (0, 0))])
+        ranked = Chooser(2, [(((0,), (1,)), (0, 0))])
         space = Space(build_of(SAFE), [once("safe"), once("safe")], chooser=ranked)
         self.assertEqual(space.web.moves(0), [(call("safe"), 1)])
         self.assertEqual(ends(space), [(0, 1)])
         self.assertEqual(len(space.web), 13)
 
     def test_states(self):
-        turns = PlainChooser(2, [(((1,), (0,)), (0, 1)), (((0,), (1,)), (0, 1))])
+        turns = Chooser(2, [(((1,), (0,)), (0, 1)), (((0,), (1,)), (0, 1))])
         space = Space(build_of(GET), [once("get"), once("get")], chooser=turns)
         run = []
         for _ in range(6):
@@ -638,12 +639,12 @@ class ChoosersTest(unittest.TestCase):
 
     def test_standings_tell_states_apart(self):
         everyone = ((0,),)
-        turns = PlainChooser(1, [(everyone, (1,)), (everyone, (2,)), (everyone, (0,))])
+        turns = Chooser(1, [(everyone, (1,)), (everyone, (2,)), (everyone, (0,))])
         build = build_of(op("f", NOTHING))
         self.assertEqual([len(Space(build, [always("f")]).web), len(Space(build, [always("f")], chooser=turns).web)], [2, 6])
 
     def test_those_that_are_held_back_are_not_able(self):
-        ranked = PlainChooser(2, [(((1,), (0,)), (1, 1)), (((0,), (1,)), (1, 1))])
+        ranked = Chooser(2, [(((1,), (0,)), (1, 1)), (((0,), (1,)), (1, 1))])
         space = Space(build_of(SAFE), [once("safe"), once("safe")], chooser=ranked)
         # Caller 1 goes first and takes no lock; then caller 0 holds it, until it returns.
         self.assertEqual(ends(space), [(0, 1)])
@@ -653,7 +654,7 @@ class RefusalsTest(unittest.TestCase):
     def setUp(self):
         self.build = linked_build(op("f", ("fence", "soft", None), NOTHING), limit=2, cells={"x": 0, "top": 0})
         self.bad = {"joined": True, "book": Book.strict(), "recipe": recipe_of(Book.strict(), Book.strict()), "window": 4,
-                    "pool": PlainPool("last", 1), "chooser": PlainChooser(2, [(((0, 1),), (0, 0))])}
+                    "pool": Pool("last", 1), "chooser": Chooser(2, [(((0, 1),), (0, 0))])}
 
     def refused(self, error, client, *names, **more):
         settings = {name: self.bad[name] for name in names}
@@ -686,7 +687,7 @@ class RefusalsTest(unittest.TestCase):
             self.assertEqual(len(Space(self.build, [once("f")], window=window).web), 3)
 
     def test_pools_may_be_as_large_as_the_limit(self):
-        self.assertEqual(len(Space(self.build, [once("f")], pool=PlainPool("quiet", 2)).web), 3)
+        self.assertEqual(len(Space(self.build, [once("f")], pool=Pool("quiet", 2)).web), 3)
 
     def test_fences(self):
         steps = [("fence", "b", None), ("fence", "a", ("x", "=", (1,)))]
@@ -708,6 +709,11 @@ class RefusalsTest(unittest.TestCase):
                     look(at)
                 self.assertIs(caught.exception.at, at)
             look(3)
+
+    def test_callers_that_there_are_not(self):
+        space = Space(build_of(GET), [once("get")])
+        for at in range(4):
+            self.assertEqual((space.called(at, 1), space.pending(at, 1), space.behind(at, 2)), (None, [], ()))
 
     def test_too_large(self):
         with self.assertRaises(TooLarge) as caught:

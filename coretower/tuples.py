@@ -1,0 +1,6 @@
+"""Tuples: they are never changed, only made anew."""
+
+
+def changed(row, at, worth):
+    """A tuple with this at a place instead."""
+    return row[:at] + (worth,) + row[at + 1:]
