@@ -18,13 +18,18 @@ def always(*names):
     return ((names,), True)
 
 
-def check_client(client, names):
-    """Raise unless this list of any values is a client whose names are all among these."""
+def check_callers(client):
+    """Raise unless this list of any values is a client."""
     if not client:
         raise BadClient(0)
     for at, caller in enumerate(client):
         if at == MOST_CALLERS or not is_caller(caller):
             raise BadClient(at)
+
+
+def check_client(client, names):
+    """Raise unless this list of any values is a client whose names are all among these."""
+    check_callers(client)
     for menus, _ in client:
         for menu in menus:
             for name in menu:

@@ -21,6 +21,7 @@ class Tower:
         check_client(client, build.names())
         check_settings(build, client, pool, book, recipe, window, chooser)
         check_client(client, table.names())
+        self.build = build
         self._table = table
         self._client = list(client)
         # Later changes of the recipe do not change what the tower is made of.

@@ -86,11 +86,15 @@ class Finder:
                 self.tell(number, "L27", "an escape")
 
     def module(self):
+        functions = set()
         for node in self.tree.body:
+            if isinstance(node, ast.FunctionDef):
+                functions.add(node.name)
             if isinstance(node, ast.Assign):
                 if len(node.targets) != 1 or not isinstance(node.targets[0], ast.Name):
                     self.tell(node, "L3", "no plain assignment")
-                elif any(isinstance(part, (ast.Name, ast.Call, ast.comprehension)) for part in ast.walk(node.value)):
+                elif any(isinstance(part, (ast.Call, ast.comprehension)) or isinstance(part, ast.Name) and not (
+                        part.id in functions and part is not node.value) for part in ast.walk(node.value)):
                     self.tell(node, "L3", "a value that is not written out")
             elif isinstance(node, ast.Expr):
                 if id(node.value) not in self.docstrings:

@@ -24,6 +24,9 @@ FUNCTIONS = {
     "traces": {"order_of": "table, trace", "orders_of": "table, trace", "breaks": "table, trace",
                "answers": "table, trace, caller", "part": "trace, names"},
     "towers": {"by_rule": "tower, name"},
+    "mending": {"places": "build", "mended": "build, chosen", "fewest_places": "tower, among, wish"},
+    "writer": {"told": "page", "told_block": "page, name"},
+    "reader": {"page_of": "text"},
 }
 SHAPE = {"rows": "self"}
 CLASSES = {
@@ -73,6 +76,10 @@ CLASSES = {
                                      "chooser=None", "rungs": "self", "__getitem__": None, "__iter__": "self",
                          "space": "self, name", "word": "self, name", "whole": "self", "game": "self, name",
                          "papers": "self", "paper": "self", "blame": "self, run"}},
+    "mending": {"Mend": {}},
+    "pages": {"Page": {"__init__": "self", "put": "self, name, kind, thing", "kind": "self, name", "__getitem__": None,
+                       "__iter__": "self", "built": "self, name"}},
+    "desk": {"Desk": {"__init__": "self, text", "asked": "property", "ask": "self, line"}},
 }
 
 STATIC = [("papers", "Paper", ["same"]), ("books", "Pairs", ["between"]), ("books", "Book", ["strict", "buffered", "loose"]),

@@ -19,7 +19,8 @@ class FinderTest(unittest.TestCase):
         return [row.split()[1].rstrip(":") for row in Finder("x.py", text, set()).find()]
 
     def test_good_code_passes(self):
-        text = '"""Told."""\n\n\ndef told(rows):\n    return sorted({row for row in rows if row is not None})\n'
+        text = ('"""Told."""\n\n\ndef told(rows):\n    return sorted({row for row in rows if row is not None})\n'
+                '\n\nROWS = {"told": told}\n')
         self.assertEqual(self.rules(text), [])
 
     def test_what_is_not_allowed_is_found(self):
@@ -37,6 +38,7 @@ class FinderTest(unittest.TestCase):
             ("def f(xs):\n    return reversed(xs)\n", "L5"), ("def f(x):\n    try:\n        pass\n"
              "    except ValueError:\n        pass\n", "L19"),
             ("def f(xs):\n    return f(*xs.told())\n", "L7"), ("A = 1\nB = (A, 2)\n", "L3"),
+            ("A = {1: f}\n\n\ndef f():\n    return 1\n", "L3"),
             ("def f(xs):\n    for x in xs:\n        xs.append(x)\n", "L23"),
             ("def f(c):\n    for x in enumerate(c.xs):\n        c.xs[0] = x\n", "L23"),
             ("def f(xs):\n    while xs:\n        ys = []\n        for x in xs:\n            ys.append(x)\n"
