@@ -61,7 +61,7 @@ class Block:
         self.lines = []
         self._stage = 0
 
-    def add(self, words):
+    def accepts(self, words):
         """Take a line, if its words have the form told for it at its place; returns whether they have."""
         verb = words[0]
         stage = self._stage_of(verb)

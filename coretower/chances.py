@@ -1,20 +1,19 @@
 """Chances: what a table and its callers can be at, as far as a trace has been seen."""
 
+from coretower.clients import MOST_CALLERS
 from coretower.kinds import is_below
 from coretower.tuples import changed
-
-EVERYONE = (0, 1, 2)
 
 class Chances:
     """All that a table and its callers can be at behind the deeds that were seen.
 
     A chance is a tuple of the table's state and a tuple with a pair for each caller that has an open call: its
-    operation, and its answer or None. A call is answered no earlier than a return asks for it.
+    operation and None, or None and its answer. Calls are not answered before a return asks for it.
     """
 
     def __init__(self, table):
         self._table = table
-        self._found = [(table.first, tuple([None for _ in EVERYONE]))]
+        self._found = [(table.first, tuple([None for _ in range(MOST_CALLERS)]))]
 
     def are_gone(self):
         """Whether what was seen cannot be."""
@@ -33,7 +32,7 @@ class Chances:
 
     def answers_of(self, caller):
         """The ascending list of what the open call of a caller can return next."""
-        if not is_below(caller, len(EVERYONE)):
+        if not is_below(caller, MOST_CALLERS):
             return []
         found = [calls[caller] for _, calls in self._answered(caller)]
         return sorted({call[1] for call in found if call is not None})
@@ -61,5 +60,5 @@ class Chances:
         for caller, call in enumerate(calls):
             if call is not None and call[1] is None:
                 answer, goal = table(call[0], state)
-                goals.append((goal, changed(calls, caller, (call[0], answer))))
+                goals.append((goal, changed(calls, caller, (None, answer))))
         return goals

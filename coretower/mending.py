@@ -98,8 +98,9 @@ def choices_of(among):
     starts = [0]
     at = 0
     while at < len(found):
-        for number in range(starts[at], len(among)):
-            found.append(found[at] + (among[number],))
+        choice, first = found[at], starts[at]
+        for number in range(first, len(among)):
+            found.append(choice + (among[number],))
             starts.append(number + 1)
         at += 1
     return found

@@ -21,7 +21,7 @@ def page_of(text):
         elif words == [END]:
             put_block(page, block, at)
             block = None
-        elif not block.add(words):
+        elif not block.accepts(words):
             raise BadText(at)
     if rest or block is not None:
         raise BadText(len(lines))

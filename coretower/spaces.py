@@ -1,7 +1,7 @@
 """Spaces: all that a machine can do for the callers of a build."""
 
 from coretower.clients import check_client
-from coretower.errors import BadNumber, BadPool, BadSetting, NoFence
+from coretower.errors import BadNumber, BadPool, BadSetting
 from coretower.exploring import Explored
 from coretower.kinds import is_below, is_number
 from coretower.machines import Machine

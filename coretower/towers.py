@@ -20,7 +20,6 @@ class Tower:
     def __init__(self, table, build, client, *, pool=None, book=None, recipe=None, window=2, chooser=None):
         check_client(client, build.names())
         check_settings(build, client, pool, book, recipe, window, chooser)
-        check_client(client, table.names())
         self.build = build
         self._table = table
         self._client = list(client)
@@ -28,6 +27,7 @@ class Tower:
         own = None if recipe is None else added(recipe, [])
         self._settings = {"pool": pool, "book": book, "recipe": own, "window": window, "chooser": chooser}
         machines = machines_of(build, self._settings)
+        # The plain web comes first: it refuses a client whose operations the table does not have.
         self._webs = {TABLE: plain_web(table, client)}
         self._spaces = {}
         for name in machines:
@@ -135,7 +135,7 @@ def machines_of(build, settings):
 
 def by_rule(tower, name):
     """The lockstep of the web of a rung that follows from rules alone and the web above; None if it has more runs."""
-    if name not in BY_RULE or name not in tower.rungs():
+    if name not in BY_RULE:
         raise NoRung(name)
-    names = tower.rungs()
-    return lockstep(tower[name], tower[names[names.index(name) - 1]])
+    low, names = tower[name], tower.rungs()
+    return lockstep(low, tower[names[names.index(name) - 1]])

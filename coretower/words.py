@@ -125,11 +125,11 @@ PARSERS = {
 def told_by(words, form):
     """The list of what the words tell by a form.
 
-    A form is a tuple of keys of the parsers. A plus behind the last one stands for one or more such words, a star
-    for any number of them.
+    A form is a tuple of keys of the parsers, not empty. A plus behind the last one stands for one or more such words,
+    a star for any number of them.
     """
     keys = list(form)
-    if keys and keys[-1][-1] in "+*":
+    if keys[-1][-1] in "+*":
         last = keys.pop()
         least = 1 if last[-1] == "+" else 0
         keys = keys + [last[:-1]] * max(least, len(words) - len(keys))

@@ -32,7 +32,7 @@ LINES = [
     "book strict", "keep read>read read>acquire read>write read>release read>both write>read write>write write>return", "end",
     "book weak", "fence soft write>read", "end",
     "recipe bad strict weak", "end",
-    "recipe none weak strict", "end",
+    "recipe none weak strict", "row soft -", "row full -", "end",
     "rule every a,b", "entry - a", "entry - b", "entry a b", "entry b a", "end",
     "rule three b,a,c", "entry - a", "entry - b", "entry - c", "entry a c", "entry c b", "entry b a", "end",
     "rule rising a,b", "entry - a", "entry - b", "entry a b", "end",
@@ -102,7 +102,8 @@ class DeskTest(unittest.TestCase):
         self.assertIn("write - return", self.desk.ask("lost bad"))
         lines = self.desk.ask("lost none")
         self.assertEqual(lines, [f"{first} {fence or '-'} {second}" for first, fence, second in lost(self.page["none"][2])])
-        self.assertTrue(all(line.split(" ")[1] in ("full", "soft") for line in lines))
+        self.assertEqual({line.split(" ")[1] for line in lines}, {"full"})
+        self.assertIn("acquire full read", lines)
 
     def test_nothing_lost(self):
         desk = Desk(text_of(["book k", "end", "recipe r k k", "end"]))
@@ -207,7 +208,7 @@ class DeskTest(unittest.TestCase):
                  "ends w joined joined", "ends w Joined", "ends w 0", "mend", "mend v", "mend v once", "mend v at section:up",
                  "mend v once up", "mend v once section:", "mend v once section", "mend v once section:up:0", "mend v once fence:up",
                  "mend v once fence:up:", "mend v once fence:up:01", "mend v once fence:up:1000", "mend v once fence:up:a",
-                 "mend v once lock:up", "mend v once section:Up", "mend v never section:up", "mend v Once section:up",
+                 "mend v once lock:up", "mend v once lock:up:0", "mend v once places:up", "mend v once section:Up", "mend v never section:up", "mend v Once section:up",
                  "mend v at once section:up", "mend v once section:up section", "mend v section:up", "order", "order t", "order t 0",
                  "order t 0:call", "order t 0:call:", "order t 0:call:Up", "order t 0:call:up:0", "order t 00:call:up", "order t a:call:up",
                  "order t 0:return:up", "order t 0:return:", "order t 0:return:01", "order t 0:step:0", "order t 0:call:0",

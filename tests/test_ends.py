@@ -144,7 +144,7 @@ class MachinesTest(unittest.TestCase):
         wake = Operation("wake", [("write", "x", (1,), None), GIVE])
         ends = Ends(space_of(wait, wake, client=[once("wait"), once("wake")]).web)
         self.assertEqual(told(ends), {"stuck": False, "some": False, "each": False, "fair": True, "singly": False})
-        stem, deeds = ends.lasso("some")
+        _, deeds = ends.lasso("some")
         self.assertEqual({deed[0] for deed in deeds}, {0})
 
     def test_a_cas_in_turns(self):
@@ -153,7 +153,7 @@ class MachinesTest(unittest.TestCase):
         again = Operation("up", steps, turns=0)
         ends = Ends(space_of(again, client=[always("up")] * 2).web)
         self.assertEqual(told(ends), {"stuck": False, "some": True, "each": False, "fair": False, "singly": True})
-        stem, deeds = ends.lasso("each")
+        _, deeds = ends.lasso("each")
         self.assertIn("return", [deed[1] for deed in deeds])
 
     def test_two_locks_in_both_orders(self):

@@ -6,7 +6,7 @@ from coretower.books import Book
 from coretower.builds import Build, Operation
 from coretower.choosers import Chooser
 from coretower.clients import always, once
-from coretower.errors import BadPlace, BadSetting, NoOperation, TooLarge
+from coretower.errors import BadPlace, BadSetting, TooLarge
 from coretower.likeness import alike
 from coretower.lone import lone_table
 from coretower.mending import Mend, fewest_places, mended, places

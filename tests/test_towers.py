@@ -1,7 +1,7 @@
 import random
 import unittest
 
-from coretower.books import Book, Pairs
+from coretower.books import Book
 from coretower.builds import Build, Operation
 from coretower.choosers import Chooser
 from coretower.clients import always, once

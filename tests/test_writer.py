@@ -64,6 +64,7 @@ class BlocksTest(unittest.TestCase):
 
     def test_books(self):
         self.assertEqual(lines_of("book", Book(Pairs())), ["book n", "end"])
+        self.assertEqual(lines_of("book", Book(Pairs([("both", "read")]))), ["book n", "keep both>read", "end"])
         book = Book(Pairs([("both", "read"), ("read", "both"), ("write", "return")]), fences={
             "z": Pairs([("write", "read")]), "b": Pairs()})
         self.assertEqual(lines_of("book", book), [
